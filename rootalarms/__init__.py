@@ -1,0 +1,1 @@
+"""Rootalarms: what is broken below the alarms."""
