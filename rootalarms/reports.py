@@ -1,159 +1,168 @@
 """Reports: which sets of broken components explain what is seen.
 
-In this file and those that build on it, `far` is the tuple of the reaches
-of all components of a net: most questions need it several times.
+In this file and those that build on it, all as bits: `alarming` and `quiet`
+are the sets of the components with these words in a report, `free` is the set
+of all candidates, and `goals` has for each alarming component in turn the set
+of the candidates in its reach. So there is no explanation exactly if a goal is
+empty, and the explanations are those sets of candidates that have something of
+each goal.
 """
 
 from rootalarms.errors import ReportError
-from rootalarms.nets import check_net, check_set, is_component, is_set_of, meets, reaches
+from rootalarms.nets import bits_of, checked_bits, heard_bits, is_below, nears, reached_bits
+from rootalarms.sets import SETS
 
 WORDS = ("alarm", "quiet", "unseen")
 
 
 def report_of(net, broken, watched):
     """Return what the components of a set watched do if those of a set are broken."""
-    check_net(net)
-    check_set(net, broken)
-    check_set(net, watched)
-    return told(reaches(net), broken, watched)
+    near = nears(net)
+    heard = heard_bits(near, checked_bits(broken, len(near)))
+    seen = checked_bits(watched, len(near))
+    words = []
+    for component in range(len(near)):
+        if not seen >> component & 1:
+            words.append("unseen")
+        elif heard >> component & 1:
+            words.append("alarm")
+        else:
+            words.append("quiet")
+    return tuple(words)
 
 
 def candidates(net, report):
     """Return the set of the components that are in the reach of no quiet one."""
-    check_report(net, report)
-    return all_candidates(reaches(net), report)
+    near = nears(net)
+    _, quiet = watched_bits(report, len(near))
+    return SETS[free_bits(near, quiet)]
 
 
 def verdict(net, report):
     """Return the greatest explanation, or what shows that there is none."""
-    check_report(net, report)
-    far = reaches(net)
-    wrong = unexplained(far, report)
-    if not wrong:
-        return ("broken", all_candidates(far, report))
-    alarm = wrong[0]
-    return ("none", alarm, tuple([clearers(far, report, part)[0] for part in far[alarm]]))
+    near = nears(net)
+    alarming, quiet = watched_bits(report, len(near))
+    free = free_bits(near, quiet)
+    wrong = alarming & ~heard_bits(near, free)
+    if wrong:
+        alarm = SETS[wrong][0]
+        return ("none", alarm, clearers(near, quiet, alarm))
+    return ("broken", SETS[free])
 
 
 def shows_verdict(net, report, thing):
     """Tell whether any value shows that there is an explanation, or that there is none."""
-    check_report(net, report)
+    near = nears(net)
+    alarming, quiet = watched_bits(report, len(near))
     if not isinstance(thing, tuple):
         return False
     if len(thing) == 2 and thing[0] == "broken":
-        return is_explanation(net, report, thing[1])
+        return is_explanation(near, alarming, quiet, thing[1])
     if len(thing) == 3 and thing[0] == "none":
-        return is_refutation(net, report, thing[1], thing[2])
+        return is_refutation(near, report, thing[1], thing[2])
     return False
 
 
 def explanations(net, report):
     """Yield all explanations, ascending."""
-    check_report(net, report)
-    for broken in all_explanations(reaches(net), report):
-        yield broken
+    free, goals = limits(nears(net), report)
+    found = all_explanations(free, goals)
+    for bits in found:
+        yield SETS[bits]
 
 
 def how_many(net, report):
     """Return the number of explanations."""
-    check_report(net, report)
-    return len(all_explanations(reaches(net), report))
+    free, goals = limits(nears(net), report)
+    return len(all_explanations(free, goals))
 
 
-# The rest is for the other files, too; but for check_report and the two
-# functions for any value, it takes arguments that are as they should be.
+# The rest is for the other files, too.
 
 
-def check_report(net, report):
-    """Raise NetError if this is no net, ReportError if this is no report of it."""
-    check_net(net)
-    if not is_report_of(net, report):
+def watched_bits(report, many):
+    """Return alarming and quiet; ReportError if this is no report of so many components."""
+    if not isinstance(report, tuple) or len(report) != many:
         raise ReportError("not a report of the net")
+    alarming = 0
+    quiet = 0
+    bit = 1
+    for word in report:
+        if word == "alarm":
+            alarming = alarming | bit
+        elif word == "quiet":
+            quiet = quiet | bit
+        elif word != "unseen":
+            raise ReportError("not a report of the net")
+        bit = bit << 1
+    return alarming, quiet
 
 
-def is_report_of(net, thing):
-    """Tell whether any value is a report of the net."""
-    if not isinstance(thing, tuple) or len(thing) != len(net):
+def free_bits(near, quiet):
+    """Return free."""
+    return (1 << len(near)) - 1 & ~reached_bits(near, quiet)
+
+
+def limits(near, report):
+    """Return free and goals; ReportError if this is no report."""
+    alarming, quiet = watched_bits(report, len(near))
+    free = free_bits(near, quiet)
+    return free, [reached_bits(near, 1 << component) & free for component in SETS[alarming]]
+
+
+def is_explanation(near, alarming, quiet, thing):
+    """Tell whether any value is a set with which all watched components do what the report says."""
+    bits = bits_of(thing, len(near))
+    if bits < 0:
         return False
-    return all([isinstance(word, str) and word in WORDS for word in thing])
+    heard = heard_bits(near, bits)
+    return not heard & quiet and not alarming & ~heard
 
 
-def is_explanation(net, report, thing):
-    """Tell whether any value is an explanation of the report."""
-    if not is_set_of(net, thing):
-        return False
-    watched = [component for component, word in enumerate(report) if word != "unseen"]
-    return told(reaches(net), thing, watched) == report
-
-
-def is_refutation(net, report, alarm, quiets):
+def is_refutation(near, report, alarm, quiets):
     """Tell whether any two values are an alarming component and quiet ones that clear its reach."""
-    if not is_component(net, alarm) or report[alarm] != "alarm":
+    many = len(near)
+    if not is_below(alarm, many) or report[alarm] != "alarm":
         return False
-    far = reaches(net)
-    if not isinstance(quiets, tuple) or len(quiets) != len(far[alarm]):
+    parts = SETS[reached_bits(near, 1 << alarm)]
+    if not isinstance(quiets, tuple) or len(quiets) != len(parts):
         return False
-    for part, quiet in zip(far[alarm], quiets):
-        if not is_component(net, quiet) or quiet not in clearers(far, report, part):
+    cleared = {}
+    for part, quiet in zip(parts, quiets):
+        if not is_below(quiet, many) or report[quiet] != "quiet":
+            return False
+        if quiet not in cleared:
+            cleared[quiet] = reached_bits(near, 1 << quiet)
+        if not cleared[quiet] >> part & 1:
             return False
     return True
 
 
-def told(far, broken, watched):
-    """Return the report of the watched components if just the broken ones are broken."""
-    return tuple([told_by(far, broken, watched, component) for component in range(len(far))])
+def clearers(near, quiet, alarm):
+    """Return for each component in the reach of one that has no candidate there the least quiet one above it."""
+    parts = reached_bits(near, 1 << alarm)
+    least = {}
+    for other in SETS[quiet]:
+        for part in SETS[parts & reached_bits(near, 1 << other)]:
+            least.setdefault(part, other)
+    return tuple([least[part] for part in SETS[parts]])
 
 
-def told_by(far, broken, watched, component):
-    """Return the word of one component in this report."""
-    if component not in watched:
-        return "unseen"
-    if meets(far[component], broken):
-        return "alarm"
-    return "quiet"
-
-
-def those_with(report, word):
-    """Return the set of the components with this word."""
-    return tuple([component for component, found in enumerate(report) if found == word])
-
-
-def clearers(far, report, component):
-    """Return the set of the quiet components in whose reach a component is."""
-    return tuple([quiet for quiet in those_with(report, "quiet") if component in far[quiet]])
-
-
-def suspects(far, report, component):
-    """Return the set of the candidates in the reach of a component."""
-    return tuple([part for part in far[component] if not clearers(far, report, part)])
-
-
-def all_candidates(far, report):
-    """Return the set of all candidates."""
-    return tuple([component for component in range(len(far)) if not clearers(far, report, component)])
-
-
-def unexplained(far, report):
-    """Return the set of the alarming components without a candidate in their reach."""
-    return tuple([alarm for alarm in those_with(report, "alarm") if not suspects(far, report, alarm)])
-
-
-def all_explanations(far, report):
-    """Return a list of all explanations, ascending."""
-    goals = [suspects(far, report, alarm) for alarm in those_with(report, "alarm")]
+def all_explanations(free, goals):
+    """Return a list of the bits of all explanations, in the order of their sets."""
+    if 0 in goals:
+        return []
+    # From the last candidate on, found has the sets of those that were taken so
+    # far, without those sets that can have nothing of a goal any more. The empty
+    # set is kept apart, as it comes ahead of the sets with the new candidate.
     found = []
-    for broken in subsets(all_candidates(far, report)):
-        if all([meets(goal, broken) for goal in goals]):
-            found.append(broken)
-    return found
-
-
-def subsets(components):
-    """Return a list of all sets of some of the components, ascending."""
-    found = [()]
-    # From the last one on: the sets that begin with a component come ahead
-    # of all those that begin with a later one, but behind the empty one.
-    for component in components[::-1]:
-        longer = [(component,) + chosen for chosen in found]
-        found = [()] + longer + found[1:]
-    return found
+    empty = [0]
+    for component in SETS[free][::-1]:
+        bit = 1 << component
+        longer = [bit | bits for bits in empty + found]
+        for goal in goals:
+            if goal & -goal == bit:
+                found = [bits for bits in found if bits & goal]
+                empty = []
+        found = longer + found
+    return empty + found

@@ -3,6 +3,7 @@
 Nothing here imports the program.
 """
 
+import re
 from functools import lru_cache
 from itertools import combinations, product
 
@@ -169,3 +170,106 @@ def witness(net, report, component):
         return ("whole", clearers(net, report, component)[0])
     one = candidates(net, report)
     return ("open", one, tuple(c for c in one if c != component))
+
+
+def fewest(net, report):
+    return min(explanations(net, report), key=lambda broken: (len(broken), broken), default=None)
+
+
+def apart(net, report):
+    if not explanations(net, report):
+        return None
+    suspects = candidates(net, report)
+    alarming = with_word(report, "alarm")
+    found = []
+    for chosen in all_sets(len(net)):
+        shared = [c for a, b in combinations(chosen, 2) for c in suspects if c in reach(net, a) and c in reach(net, b)]
+        if set(chosen) <= set(alarming) and not shared:
+            found.append(chosen)
+    return min(found, key=lambda chosen: (-len(chosen), chosen))
+
+
+def halves(net, report, component):
+    found = explanations(net, report)
+    alarm = sum(component in alarms(net, broken) for broken in found)
+    return (alarm, len(found) - alarm)
+
+
+def next_watch(net, report):
+    words = expected(net, report)
+    if words is None:
+        return None
+    choice = [c for c in range(len(net)) if report[c] == "unseen" and words[c] == "open"]
+    return min(choice, key=lambda c: (max(halves(net, report, c)), c), default=None)
+
+
+@lru_cache(maxsize=1000)
+def all_heard(net):
+    """Each set of components that may be broken, with what alarms then."""
+    return [(broken, alarms(net, broken)) for broken in all_sets(len(net))]
+
+
+def explanations_of(net, report, watched):
+    """The explanations if only some components of a report were watched."""
+    return [
+        broken for broken, heard in all_heard(net)
+        if all((report[c] == "alarm") == (c in heard) for c in watched)
+    ]
+
+
+def watched_in(report):
+    return tuple(c for c, word in enumerate(report) if word != "unseen")
+
+
+def needless(net, report):
+    found = explanations(net, report)
+    if not found:
+        return None
+    watched = watched_in(report)
+    return tuple(c for c in watched if explanations_of(net, report, [o for o in watched if o != c]) == found)
+
+
+def core(net, report):
+    found = explanations(net, report)
+    if not found:
+        return None
+    watched = watched_in(report)
+    for size in range(len(watched) + 1):
+        for kept in combinations(watched, size):
+            if explanations_of(net, report, kept) == found:
+                return tuple(word if c in kept else "unseen" for c, word in enumerate(report))
+    raise AssertionError("the report itself has its explanations")
+
+
+def groups(net, watched):
+    many = range(len(net))
+    heard = [tuple(c for c in alarms(net, (own,)) if c in watched) for own in many]
+    return tuple(sorted({tuple(b for b in many if heard[b] == heard[a]) for a in many}))
+
+
+def text(net):
+    return "\n".join([":".join([str(c), "".join(" " + str(need) for need in row)]) for c, row in enumerate(net)] + [""])
+
+
+@lru_cache(maxsize=None)
+def texts(most):
+    """The nets with up to so many components by their texts."""
+    return {text(net): net for many in range(1, most + 1) for net in all_nets(many)}
+
+
+def read(given):
+    """The net with exactly this text, or None: each line is matched as a whole."""
+    lines = re.fullmatch(r"((?:[0-7]:(?: [0-7])*\n){1,8})", given)
+    if not lines:
+        return None
+    net = []
+    for line in lines[1].split("\n")[:-1]:
+        number, *needs = re.findall(r"[0-7]", line)
+        if int(number) != len(net):
+            return None
+        net.append(tuple(map(int, needs)))
+    many = len(net)
+    for own, row in enumerate(net):
+        if own in row or list(row) != sorted(set(row)) or any(need >= many for need in row):
+            return None
+    return tuple(net)

@@ -22,6 +22,34 @@ INTERFACE = {
         "certain": ["net", "report"], "expected": ["net", "report"], "witness": ["net", "report", "component"],
         "shows_witness": ["net", "report", "component", "thing"],
     },
+    "few": {"fewest": ["net", "report"], "apart": ["net", "report"]},
+    "advice": {
+        "halves": ["net", "report", "component"], "next_watch": ["net", "report"], "needless": ["net", "report"],
+        "core": ["net", "report"], "groups": ["net", "watched"],
+    },
+}
+
+# For each class its bases, its properties, and its methods with their arguments.
+CLASSES = {
+    "objects": {
+        "Net": ([], ["needs", "rings"], {
+            "__init__": ["self", "needs"], "__call__": ["self", "broken"], "__getitem__": ["self", "component"],
+            "__add__": ["self", "other"], "__neg__": ["self"], "text": ["self"], "__len__": ["self"],
+            "__contains__": ["self", "thing"], "__eq__": ["self", "other"], "__repr__": ["self"],
+        }),
+    },
+    "watches": {
+        "Watch": ([], ["net", "report", "candidates", "explained", "fewest", "changes"], {
+            "__init__": ["self", "net", "report"], "assign_report": ["self", "report"],
+            "see": ["self", "component", "word"], "__call__": ["self", "component", "word"],
+            "forget": ["self", "component"], "__getitem__": ["self", "component"], "undo": ["self"],
+            "trying": ["self"], "__len__": ["self"], "__contains__": ["self", "thing"],
+            "__eq__": ["self", "other"], "__repr__": ["self"],
+        }),
+        "Careful": (["Watch"], [], {"__init__": ["self", "net", "report"]}),
+        "Small": (["Watch"], ["most"], {"__init__": ["self", "net", "report", "most"]}),
+        "CarefulSmall": (["Careful", "Small"], [], {"__init__": ["self", "net", "report", "most"]}),
+    },
 }
 
 
@@ -39,10 +67,41 @@ class InterfaceTest(unittest.TestCase):
                     self.assertEqual(function.__module__, f"rootalarms.{file}")
                     self.assertEqual(list(inspect.signature(function).parameters), arguments)
 
+    def test_classes_are_defined_in_their_files_with_what_they_list(self):
+        for file, classes in CLASSES.items():
+            module = import_module(f"rootalarms.{file}")
+            for name, (bases, properties, methods) in classes.items():
+                kind = getattr(module, name)
+                self.assertEqual(kind.__module__, f"rootalarms.{file}")
+                self.assertEqual([base.__name__ for base in kind.__bases__ if base is not object], bases)
+                for member in properties:
+                    with self.subTest(name=name, member=member):
+                        self.assertIsInstance(vars(kind)[member], property)
+                for member, arguments in methods.items():
+                    with self.subTest(name=name, member=member):
+                        self.assertEqual(list(inspect.signature(vars(kind)[member]).parameters), arguments)
+
+    def test_read_and_ring_belong_to_the_class(self):
+        kind = import_module("rootalarms.objects").Net
+        self.assertIsInstance(vars(kind)["read"], classmethod)
+        self.assertIsInstance(vars(kind)["ring"], staticmethod)
+        self.assertEqual(list(inspect.signature(kind.read).parameters), ["text"])
+        self.assertEqual(list(inspect.signature(kind.ring).parameters), ["many"])
+
     def test_arguments_may_be_passed_by_name(self):
         reports = import_module("rootalarms.reports")
         self.assertEqual(reports.report_of(net=((),), broken=(0,), watched=(0,)), ("alarm",))
         self.assertIs(reports.shows_verdict(net=((),), report=("alarm",), thing=("broken", (0,))), True)
+        objects, watches = import_module("rootalarms.objects"), import_module("rootalarms.watches")
+        net = objects.Net.read(text="0:\n") + objects.Net.ring(many=2)
+        self.assertEqual(net(broken=(2,)), (1, 2))
+        watch = watches.CarefulSmall(net=net, report=("quiet", "unseen", "unseen"), most=3)
+        watch.see(component=1, word="alarm")
+        watch(component=2, word="alarm")
+        watch.forget(component=0)
+        self.assertEqual(watch.report, ("unseen", "alarm", "alarm"))
+        watch.assign_report(report=("unseen",) * 3)
+        self.assertEqual(watch, watches.Watch(net=net))
 
 
 class FilesTest(unittest.TestCase):
@@ -70,7 +129,11 @@ class FilesTest(unittest.TestCase):
                     self.assertTrue(node.module.startswith("rootalarms."), path)
                     for alias in node.names:
                         found = getattr(import_module(node.module), alias.name)
-                        self.assertEqual(found.__module__, node.module, (path, alias.name))
+                        if callable(found):
+                            self.assertEqual(found.__module__, node.module, (path, alias.name))
+                        else:
+                            defined = import_module(node.module).__file__
+                            self.assertRegex(Path(defined).read_text("utf-8"), rf"(?m)^{alias.name} = ", path)
 
     def test_nothing_that_the_language_leaves_out(self):
         barred = (ast.AsyncFunctionDef, ast.Await, ast.Global, ast.Div, ast.TryStar)

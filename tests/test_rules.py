@@ -4,7 +4,7 @@ import unittest
 from copy import deepcopy
 from itertools import product
 
-from rootalarms import certain, nets, reports
+from rootalarms import advice, certain, few, nets, reports
 from rootalarms.errors import ComponentError, NetError, ReportError, SetError
 
 from tests.values import NETS, ODD, WRONG_COMPONENTS, WRONG_NETS, WRONG_REPORTS, WRONG_SETS
@@ -42,6 +42,13 @@ CALLS = {
     "expected": (certain.expected, ("net", "report")),
     "witness": (certain.witness, ("net", "report", "component")),
     "shows_witness": (certain.shows_witness, ("net", "report", "component", "thing")),
+    "fewest": (few.fewest, ("net", "report")),
+    "apart": (few.apart, ("net", "report")),
+    "halves": (advice.halves, ("net", "report", "component")),
+    "next_watch": (advice.next_watch, ("net", "report")),
+    "needless": (advice.needless, ("net", "report")),
+    "core": (advice.core, ("net", "report")),
+    "groups": (advice.groups, ("net", "set")),
 }
 
 

@@ -3,7 +3,7 @@
 import unittest
 from itertools import product
 
-from rootalarms import certain, nets, reports
+from rootalarms import advice, certain, few, nets, reports
 
 from tests import second
 from tests.values import NETS, changed, larger_cases, small_cases, some_nets, some_reports
@@ -40,6 +40,7 @@ class SecondWayTest(unittest.TestCase):
             self.same(nets.alarms(net, broken), second.alarms(net, broken), net, broken)
             wanted = second.report_of(net, broken, watched)
             self.same(reports.report_of(net, broken, watched), wanted, net, broken, watched)
+            self.same(advice.groups(net, watched), second.groups(net, watched), net, watched)
 
     def check_report(self, net, report):
         found = second.explanations(net, report)
@@ -52,6 +53,15 @@ class SecondWayTest(unittest.TestCase):
         for component in range(len(net)):
             wanted = second.witness(net, report, component)
             self.same(certain.witness(net, report, component), wanted, net, report, component)
+            wanted = second.halves(net, report, component)
+            self.same(advice.halves(net, report, component), wanted, net, report, component)
+        self.same(few.fewest(net, report), second.fewest(net, report), net, report)
+        self.same(advice.next_watch(net, report), second.next_watch(net, report), net, report)
+
+    def check_fewer(self, net, report):
+        self.same(few.apart(net, report), second.apart(net, report), net, report)
+        self.same(advice.needless(net, report), second.needless(net, report), net, report)
+        self.same(advice.core(net, report), second.core(net, report), net, report)
 
     def check_shows(self, net, report, things):
         right = {strict(thing) for thing in second.verdicts(net, report)}
@@ -71,6 +81,7 @@ class SecondWayTest(unittest.TestCase):
     def test_all_reports_of_all_small_nets(self):
         for net, report in small_cases():
             self.check_report(net, report)
+            self.check_fewer(net, report)
 
     def test_larger_nets(self):
         for many in range(4, 9):
@@ -85,6 +96,18 @@ class SecondWayTest(unittest.TestCase):
         for net in NETS:
             for report in some_reports(7, net, 20):
                 self.check_report(net, report)
+
+    def test_fewer_watched_ones_of_larger_nets(self):
+        for net, report in larger_cases()[::4]:
+            self.check_fewer(net, report)
+        for net in NETS:
+            for report in some_reports(8, net, 4) + [("alarm",) * len(net), ("quiet",) * len(net)]:
+                self.check_fewer(net, report)
+
+    def test_fewer_watched_ones_where_all_are_watched(self):
+        for net, report in larger_cases()[1::20]:
+            for broken in second.all_sets(len(net))[::15]:
+                self.check_fewer(net, second.report_of(net, broken, range(len(net))))
 
     def test_the_cases_are_of_both_kinds(self):
         explained = [bool(second.explanations(net, report)) for net, report in small_cases()]

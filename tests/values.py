@@ -3,6 +3,8 @@
 from random import Random
 
 from rootalarms.errors import LimitError, NetError, Unexplained
+from rootalarms.objects import Net
+from rootalarms.watches import Careful, CarefulSmall, Small, Watch
 
 from tests import second
 
@@ -24,6 +26,12 @@ def deep(kind):
     return value
 
 
+# Objects of the package: of one component and of two, so that they look as much like good values as they can.
+OBJECTS = (
+    Net(()), Net((1,), ()), Net(*ROW), Watch(Net(())), Watch(Net((1,), ()), ("unseen", "alarm")),
+    Careful(Net((), ())), Small(Net((1,), ()), ("quiet", "quiet"), 2), CarefulSmall(Net(())),
+)
+
 ODD = (
     None, True, False, 0, 1, -1, 8, 10**13 - 1, 1 - 10**13, "", "alarm", "broken", "x\ny", "a" * 1000,
     (), [], {}, (0,), [0], {0: 1}, (True,), (None,), ("broken",), ("none", 0), ("open", (), ()),
@@ -32,28 +40,38 @@ ODD = (
     (0,) * 8000, [()] * 7999, ((),) * 7999, ("alarm",) * 8000, tuple(range(8000)),
     ("broken", tuple(range(7000))), {number: None for number in range(4000)},
     NetError("x"), (NetError("x"), NetError("x")), ("broken", Unexplained(0, (0,))), LimitError(9, 8),
+    *OBJECTS, OBJECTS, list(OBJECTS), (OBJECTS[0],), ("broken", OBJECTS[0]), ("broken", (OBJECTS[1],)),
+    ("none", 0, (OBJECTS[0],)), ("open", OBJECTS[0], OBJECTS[1]), (OBJECTS[2], 0), {0: OBJECTS[0]},
 )
 
 WRONG_NETS = (
     (), ((),) * 9, [()], [(), ()], ([], ()), ([1], ()), ((1,), []), ((0,),), ((), (1,)), ((1,),), ((2,), ()),
     ((-1,), ()), ((2, 1), (), ()), ((1, 1), (), ()), ((True,), ()), ((), (False,)), ((1, True), ()), ((None,), ()),
     (("1",), ()), ((1.0,), ()), (((1,),), ()), ((1,), 0), (None,), ("",), ({},), ((1,), {}), {0: ()},
-    "net", None, True, 0, 1,
+    "net", None, True, 0, 1, *OBJECTS, (OBJECTS[0],), ((OBJECTS[0],), ()), ((1,), OBJECTS[1]),
 )
 
-WRONG_COMPONENTS = (-1, 2, 8, 10**13 - 1, True, False, None, "0", "", (0,), [0], (), [], {}, {0: 0}, 0.0)
+WRONG_COMPONENTS = (-1, 2, 8, 10**13 - 1, True, False, None, "0", "", (0,), [0], (), [], {}, {0: 0}, 0.0, *OBJECTS)
 
 WRONG_SETS = (
     [], [0], [0, 1], (1, 0), (0, 0), (0, 1, 1), (-1,), (2,), (0, 2), (0, 1, 2), (True,), (False,), (0, True),
     (False, 1), (None,), ("0",), ((0,),), ([0],), (0.0,), None, True, False, 0, 1, "", "01", {}, {0: True},
+    *OBJECTS, (OBJECTS[0],), (0, OBJECTS[1]),
 )
 
 WRONG_REPORTS = (
     (), ("alarm",), ("alarm", "quiet", "unseen"), ["alarm", "quiet"], ("alarm", "Quiet"), ("alarm", "quiet "),
     ("alarm", ""), ("alarm", "open"), ("broken", "whole"), ("alarm", None), (True, False), (0, 1), ("alarm", 0),
     ("alarm", ("quiet",)), ("alarm", ["quiet"]), (("alarm", "quiet"),), ("alarm", {}), ("alarm", b"quiet"),
-    {0: "alarm", 1: "quiet"}, "aq", "alarm", None, True, 2,
+    {0: "alarm", 1: "quiet"}, "aq", "alarm", None, True, 2, *OBJECTS, (OBJECTS[0], "alarm"), ("alarm", OBJECTS[4]),
 )
+
+WRONG_WORDS = (
+    "", "Alarm", "alarm ", "broken", "whole", "open", "none", None, True, False, 0, 1, ("alarm",), ["alarm"],
+    {"alarm": 1}, (), [], b"alarm", *OBJECTS,
+)
+
+WRONG_NUMBERS = (-1, 9, 10**13 - 1, True, False, None, "4", "", (4,), [4], {}, 4.0, *OBJECTS)
 
 
 def some_nets(seed, many, tries):
